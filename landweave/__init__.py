@@ -1,0 +1,1 @@
+"""Landweave: an endless land by rules, seed and edits, asked at any level."""

@@ -1,0 +1,50 @@
+"""What all parts of the land take for numbers, names, points and boxes."""
+
+from landweave.errors import NoBox, NoPoint
+
+EDGE = 1000000
+ALL_POINTS = (-1000000, -1000000, 1000000, 1000000)
+LONGEST_NAME = 8
+
+
+def is_whole(thing):
+    """Whether a thing is a whole number; to Python a truth would be one, too."""
+    return isinstance(thing, int) and not isinstance(thing, bool)
+
+
+def is_from(thing, low, high):
+    """Whether a thing is a whole number from low to high."""
+    return is_whole(thing) and low <= thing <= high
+
+
+def is_name(thing):
+    """Whether a thing is a name: a text of one to eight small letters a to z."""
+    if not isinstance(thing, str) or not 1 <= len(thing) <= LONGEST_NAME:
+        return False
+    return all(["a" <= sign <= "z" for sign in thing])
+
+
+def is_point(x, z):
+    """Whether (x, z) is a point of the land."""
+    return is_from(x, -EDGE, EDGE) and is_from(z, -EDGE, EDGE)
+
+
+def must_point(x, z):
+    """Refuse (x, z) with NoPoint where it is no point."""
+    if not is_point(x, z):
+        raise NoPoint()
+
+
+def is_box(thing):
+    """Whether a thing is a box, of any size."""
+    if not isinstance(thing, tuple) or len(thing) != 4:
+        return False
+    if not is_point(thing[0], thing[1]) or not is_point(thing[2], thing[3]):
+        return False
+    return thing[0] <= thing[2] and thing[1] <= thing[3]
+
+
+def must_box(box):
+    """Refuse a box with NoBox where it is none."""
+    if not is_box(box):
+        raise NoBox()

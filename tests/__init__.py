@@ -1,0 +1,1 @@
+"""Tests of Landweave: python3 -m unittest discover -s tests -t ."""

@@ -1,0 +1,224 @@
+"""What the tests share: the document's words, written out plainly a second time, and rules by chance.
+
+Nothing here uses the package, so that an answer of the package is held against another one.
+"""
+
+import contextlib
+import itertools
+import random
+import signal
+
+LAND = (-10 ** 6, -10 ** 6, 10 ** 6, 10 ** 6)
+PAIRS = ("plus", "less", "times", "least", "most")
+FIELD_PLACES = {"over": (1,), "below": (1, 2, 3, 4), "shift": (3,), "let": (2, 3)}
+FIELD_PLACES.update({word: (1, 2) for word in PAIRS})
+
+
+@contextlib.contextmanager
+def within_seconds(most):
+    """Fail where what is done within takes longer; without it an endless answer would hang."""
+    def stop(*_):
+        raise AssertionError(f"no answer within {most} seconds")
+    before = signal.signal(signal.SIGALRM, stop)
+    signal.setitimer(signal.ITIMER_REAL, most)
+    try:
+        yield
+    finally:
+        signal.setitimer(signal.ITIMER_REAL, 0)
+        signal.signal(signal.SIGALRM, before)
+
+
+def plain_knot(seed, salt, i, j):
+    a = (seed + 48271 * salt + 7) % 2147483647
+    b = (a * a + 69621 * i + 1) % 2147483629
+    c = (b * b + 16807 * j + 1) % 2147483587
+    return ((c * c + c) % 2147483579) % 65536
+
+
+def plain_noise(salt, log, seed, x, z):
+    size = 2 ** log
+    i, j = x // size, z // size
+    p, q = x % size, z % size
+    whole = (size - p) * (size - q) * plain_knot(seed, salt, i, j)
+    whole += p * (size - q) * plain_knot(seed, salt, i + 1, j)
+    whole += (size - p) * q * plain_knot(seed, salt, i, j + 1)
+    whole += p * q * plain_knot(seed, salt, i + 1, j + 1)
+    return whole // (size * size)
+
+
+def bare(rules, lets=()):
+    """The rules with each let exchanged for its B and each name for its let's A."""
+    word = rules[0]
+    if word == "let":
+        return bare(rules[3], ((rules[1], rules[2], lets),) + lets)
+    if word == "name":
+        held = next(let for let in lets if let[0] == rules[1])
+        return bare(held[1], held[2])
+    places = FIELD_PLACES.get(word, ())
+    return tuple(bare(part, lets) if at in places else part for at, part in enumerate(rules))
+
+
+def count_of(field):
+    """How many fields a bare field has."""
+    return 1 + sum(count_of(field[at]) for at in FIELD_PLACES.get(field[0], ()))
+
+
+def plain_value(rules, seed, x, z):
+    """The value of rules, straight by point 6."""
+    return bare_value(bare(rules), seed, x, z)
+
+
+def bare_value(field, seed, x, z):
+    word = field[0]
+    if word == "shift":
+        return bare_value(field[3], seed, x + field[1], z + field[2])
+    if word == "noise":
+        return plain_noise(field[1], field[2], seed, x, z)
+    if word in ("whole", "x", "z"):
+        return {"whole": field[-1], "x": x, "z": z}[word]
+    parts = [bare_value(field[at], seed, x, z) for at in FIELD_PLACES[word]]
+    if word == "over":
+        return parts[0] // field[2]
+    if word == "below":
+        return parts[2] if parts[0] < parts[1] else parts[3]
+    one, other = parts
+    return {"plus": one + other, "less": one - other, "times": one * other,
+            "least": min(one, other), "most": max(one, other)}[word]
+
+
+def points_in(box):
+    return itertools.product(range(box[0], box[2] + 1), range(box[1], box[3] + 1))
+
+
+def plain_range(field, seed, box):
+    """The range of a bare field, straight by point 9; of few squares all points are looked at."""
+    word = field[0]
+    if word == "shift":
+        dx, dz = field[1:3]
+        return plain_range(field[3], seed, (box[0] + dx, box[1] + dz, box[2] + dx, box[3] + dz))
+    if word == "noise":
+        size = 2 ** field[2]
+        squares = (box[2] // size - box[0] // size + 1) * (box[3] // size - box[1] // size + 1)
+        if squares > 64:
+            return (0, 65535)
+        values = [plain_noise(field[1], field[2], seed, x, z) for x, z in points_in(box)]
+        return (min(values), max(values))
+    if word in ("whole", "x", "z"):
+        return {"whole": (field[-1], field[-1]), "x": box[0::2], "z": box[1::2]}[word]
+    parts = [plain_range(field[at], seed, box) for at in FIELD_PLACES[word]]
+    (low, high), (least, most) = parts[0], parts[-1]
+    if word == "over":
+        return (low // field[2], high // field[2])
+    if word == "below":
+        if parts[0][1] < parts[1][0]:
+            return parts[2]
+        if parts[0][0] >= parts[1][1]:
+            return parts[3]
+        return (min(parts[2][0], parts[3][0]), max(parts[2][1], parts[3][1]))
+    products = (low * least, low * most, high * least, high * most)
+    return {"plus": (low + least, high + most), "less": (low - most, high - least),
+            "times": (min(products), max(products)),
+            "least": (min(low, least), min(high, most)),
+            "most": (max(low, least), max(high, most))}[word]
+
+
+def plain_steps(rules):
+    """The steps of rules, straight by point 8."""
+    steps = []
+    put_steps(bare(rules), 0, 0, steps)
+    return steps
+
+
+def put_steps(field, dx, dz, steps):
+    word = field[0]
+    if word == "shift":
+        return put_steps(field[3], dx + field[1], dz + field[2], steps)
+    ends = {"x": (dx,), "z": (dz,), "noise": (dx, dz)}.get(word, ())
+    places = FIELD_PLACES.get(word, ())
+    step = tuple(put_steps(part, dx, dz, steps) if at in places else part
+                 for at, part in enumerate(field)) + ends
+    if step not in steps:
+        steps.append(step)
+    return steps.index(step)
+
+
+class Chance:
+    """Rules, points and boxes by chance, the same ones from the same number."""
+
+    def __init__(self, number):
+        self.random = random.Random(number)
+
+    def rules(self, deep, names=()):
+        """A field at most so deep, with names only where they have a let."""
+        pick = self.random
+        if deep == 0 or pick.random() < 0.1:
+            return self.end(names)
+        word = pick.choice(PAIRS + ("over", "below", "shift", "let", "let", "shift"))
+        part = deep - 1
+        if word == "over":
+            return (word, self.rules(part, names), pick.choice((1, 2, 3, 7, 1000, 10 ** 9)))
+        if word == "below":
+            return (word, *(self.rules(min(part, 2), names) for _ in range(4)))
+        if word == "shift":
+            return (word, pick.randint(-1000, 1000), pick.randint(-9, 9), self.rules(part, names))
+        if word == "let":
+            name = pick.choice(("a", "b", "zz"))
+            return (word, name, self.rules(part, names), self.rules(part, names + (name, name)))
+        return (word, self.rules(part, names), self.rules(part, names))
+
+    def end(self, names):
+        pick = self.random
+        if names and pick.random() < 0.5:
+            return ("name", pick.choice(names))
+        return pick.choice((("x",), ("z",), ("whole", pick.randint(-999, 999)),
+                            ("noise", pick.choice((0, 1, 10 ** 9)), pick.randint(0, 8))))
+
+    def many_rules(self, many, deep):
+        """So many rules that aren't too great."""
+        found = []
+        while len(found) < many:
+            rules = self.rules(deep)
+            if count_of(bare(rules)) <= 60 and is_within(bare(rules), LAND):
+                found.append(rules)
+        return found
+
+    def seed(self):
+        return self.random.choice((0, 1, 7, 10 ** 9, self.random.randint(0, 10 ** 9)))
+
+    def point(self):
+        pick = self.random
+        far = pick.choice((0, 3, 300, 10 ** 6))
+        ends = (-10 ** 6, 10 ** 6)
+        if pick.random() < 0.1:
+            return (pick.choice(ends), pick.choice(ends))
+        return (pick.randint(-far, far), pick.randint(-far, far))
+
+    def box(self, most):
+        """A box at most so long either way."""
+        x, z = self.point()
+        wide, deep = self.random.randint(1, most), self.random.randint(1, most)
+        return (max(x - wide + 1, -10 ** 6), max(z - deep + 1, -10 ** 6), x, z)
+
+    def part(self, box):
+        """A box within a box."""
+        xs = sorted(self.random.randint(box[0], box[2]) for _ in range(2))
+        zs = sorted(self.random.randint(box[1], box[3]) for _ in range(2))
+        return (xs[0], zs[0], xs[1], zs[1])
+
+
+def is_within(field, box):
+    """Whether the ranges of a bare field and of all within it are from -10 ** 30 to 10 ** 30."""
+    if field[0] == "shift":
+        dx, dz = field[1:3]
+        box = (box[0] + dx, box[1] + dz, box[2] + dx, box[3] + dz)
+    low, high = plain_range(field, 0, box) if field[0] != "shift" else (0, 0)
+    if not -10 ** 30 <= low <= high <= 10 ** 30:
+        return False
+    return all(is_within(field[at], box) for at in FIELD_PLACES.get(field[0], ()))
+
+
+def deep_in(field, many, around):
+    """A field so many fields deep, each put around the one before by a function."""
+    for _ in range(many):
+        field = around(field)
+    return field
