@@ -1,50 +1,32 @@
 """Fields: rules that have a value at each point, the steps they come to, and their bounds.
 
-Rules are looked at as they stand (must_parts), then each name is exchanged for what its let
-holds (exchanged), then the fields that are left become steps (made_steps). All of this goes by
-lists of what is still to do and not by calls within calls: names exchanged within names may lie
-deeper than Python's calls should.
+Rules are weighed first, in one go (weighed): whether they have a fault, how many fields they are with
+names exchanged, and how great their values might be. Only where that tells of a fault, the first one is
+looked for (landweave.faults), and only where values might be too great, their ranges are. What is left
+becomes steps (placed). Both go by calls within calls: fields lie at most 60 one within another, and
+somewhat more do no harm.
 """
 
 from landweave.errors import NoRules
-from landweave.knots import knot
+from landweave.faults import must_parts
+from landweave.noises import noise_range, noise_value
 from landweave.plain import ALL_POINTS, is_from, is_name, must_box, must_point
 
 MOST_FIELDS = 200
-MOST_SQUARES = 64
 GREATEST_VALUE = 10 ** 30
-GREATEST_KNOT = 65535
+BEYOND = 10 ** 30 + 1
+PAIRS = ("plus", "less", "times", "least", "most")
 
-# What stands behind each word: a field, a name, or a number by its kind below.
-SHAPES = {
-    "whole": ("figures",),
-    "x": (),
-    "z": (),
-    "noise": ("salt", "log"),
-    "plus": ("field", "field"),
-    "less": ("field", "field"),
-    "times": ("field", "field"),
-    "least": ("field", "field"),
-    "most": ("field", "field"),
-    "over": ("field", "divisor"),
-    "below": ("field", "field", "field", "field"),
-    "shift": ("offset", "offset", "field"),
-    "let": ("name", "field", "field"),
-    "name": ("name",),
-}
-
-NUMBERS = {
-    "figures": (-999999999, 999999999),
-    "salt": (0, 1000000000),
-    "log": (0, 8),
-    "divisor": (1, 1000000000),
-    "offset": (-1000, 1000),
-}
+# What the fields without a field in them weigh: one field, and no value beyond that number. Shifts put
+# at most 200 times 1,000 to an x or z.
+PLACE = (1, 1200000)
+NOISE = (1, 65535)
 
 
 def must_rules(rules):
     """None, or a refusal with NoRules by the first fault of the rules."""
-    steps_of(rules)
+    if greatest_of(rules) > GREATEST_VALUE:
+        steps_of(rules)
 
 
 def value_at(rules, seed, x, z):
@@ -56,11 +38,12 @@ def value_at(rules, seed, x, z):
 
 def steps_of(rules):
     """The rules as a list of steps in which nothing is reckoned twice; the last has their value."""
-    must_parts(rules)
-    steps = made_steps(exchanged(rules))
-    for low, high in ranges_of(steps, 0, ALL_POINTS):
-        if low < -GREATEST_VALUE or high > GREATEST_VALUE:
-            raise NoRules((), "great")
+    greatest = greatest_of(rules)
+    made = {}
+    placed(rules, 0, 0, {}, made)
+    steps = list(made)
+    if greatest > GREATEST_VALUE:
+        must_ranges(steps)
     return steps
 
 
@@ -68,7 +51,22 @@ def run_steps(some, seed, x, z):
     """The value of the last of some steps at (x, z), which may lie beyond the land."""
     values = []
     for step in some:
-        values.append(step_value(step, values, seed, x, z))
+        word = step[0]
+        if word == "noise":
+            value = noise_value(seed, step[1], step[2], x + step[3], z + step[4])
+        elif word == "whole":
+            value = step[1]
+        elif word == "x":
+            value = x + step[1]
+        elif word == "z":
+            value = z + step[1]
+        elif word == "over":
+            value = values[step[1]] // step[2]
+        elif word == "below":
+            value = values[step[3] if values[step[1]] < values[step[2]] else step[4]]
+        else:
+            value = joined_value(word, values[step[1]], values[step[2]])
+        values.append(value)
     return values[-1]
 
 
@@ -76,152 +74,121 @@ def bounds_of(rules, seed, box):
     """The least and the greatest value that the rules may have in a box: (LOW, HIGH)."""
     steps = steps_of(rules)
     must_box(box)
-    return ranges_of(steps, seed, box)[-1]
+    return steps_range(steps, seed, box)
 
 
-# Rules as they stand.
+# Rules weighed.
 
 
-def must_parts(rules):
-    """Refuse rules by the first fault of a part, gone through from without, parts in order."""
-    todo = [("field", rules, (), ())]
-    while todo:
-        kind, thing, path, names = todo.pop()
-        if kind == "field":
-            must_field(thing, path, names)
-            for part in reversed(parts_of(thing, path, names)):
-                todo.append(part)
-        elif kind == "name":
-            if not is_name(thing):
-                raise NoRules(path, "name")
-        elif not is_from(thing, NUMBERS[kind][0], NUMBERS[kind][1]):
-            raise NoRules(path, "number")
+def greatest_of(rules):
+    """What no value within some rules is beyond; refuses them by a fault, or for too many fields."""
+    try:
+        many, greatest = weighed(rules, {})
+    except NoRules:
+        must_parts(rules)
+        raise
+    if many > MOST_FIELDS:
+        raise NoRules((), "great")
+    return greatest
 
 
-def must_field(field, path, names):
-    """Refuse what is no field by its word and how many things it has, or a name without a let."""
-    if not is_shaped(field):
-        raise NoRules(path, "kind")
-    if field[0] == "name" and is_name(field[1]) and field[1] not in names:
-        raise NoRules(path, "unbound")
+def weighed(field, lets):
+    """How many fields a field is, names exchanged, and a number that no value in it is beyond.
 
-
-def is_shaped(field):
-    """Whether a field is a tuple of a word and as many things as this word has."""
-    # A word that is no text might not do as a key, so it must not be looked up.
-    if not isinstance(field, tuple) or not field or not isinstance(field[0], str):
-        return False
-    return field[0] in SHAPES and len(field) == 1 + len(SHAPES[field[0]])
-
-
-def parts_of(field, path, names):
-    """What stands behind the word of a field: kinds, things, paths and the names with a let there."""
-    within = names
-    if field[0] == "let":
-        within = (*names, field[1])
-    parts = []
-    for place, kind in enumerate(SHAPES[field[0]], 1):
-        # Only a let's last field stands within the let.
-        bound = within if place == 3 else names
-        parts.append((kind, field[place], (*path, place), bound))
-    return parts
-
-
-# Rules with lets and names exchanged.
-
-
-def exchanged(rules):
-    """The fields of rules, lets and names exchanged, parts ahead of wholes: (field, dx, dz).
-
-    dx and dz are what the shifts around a field come to; shifts themselves are only counted.
+    lets has what is told of the A of each let around. A fault is refused without telling which.
     """
-    found = []
-    many = 0
-    todo = [(rules, 0, 0, None)]
-    while todo:
-        field, dx, dz, lets = todo.pop()
-        if field[0] == "let":
-            todo.append((field[3], dx, dz, (field[1], field[2], lets)))
-            continue
-        if field[0] == "name":
-            _, held, around = nearest_let(field[1], lets)
-            todo.append((held, dx, dz, around))
-            continue
-        # To stop here is what keeps rules short that exchange names by the thousand.
-        many += 1
-        if many > MOST_FIELDS:
-            raise NoRules((), "great")
-        if field[0] == "shift":
-            todo.append((field[3], dx + field[1], dz + field[2], lets))
-            continue
-        found.append((field, dx, dz))
-        for kind, part in zip(SHAPES[field[0]], field[1:]):
-            if kind == "field":
-                todo.append((part, dx, dz, lets))
-    # Each whole came ahead of its parts, and these from the last one to the first.
-    return found[::-1]
+    if not isinstance(field, tuple):
+        raise NoRules()
+    things = len(field)
+    if things == 3:
+        word, one, other = field
+        if word in PAIRS:
+            many, great = weighed(one, lets)
+            more, greater = weighed(other, lets)
+            if word == "times":
+                # Names within names may come to numbers without end.
+                return many + more + 1, min(great * greater, BEYOND)
+            return many + more + 1, great + greater
+        if word == "noise" and is_from(one, 0, 1000000000) and is_from(other, 0, 8):
+            return NOISE
+        if word == "over" and is_from(other, 1, 1000000000):
+            many, great = weighed(one, lets)
+            return many + 1, great
+    elif things == 1:
+        if field[0] == "x" or field[0] == "z":
+            return PLACE
+    elif things == 2:
+        word, one = field
+        if word == "whole" and is_from(one, -999999999, 999999999):
+            return 1, abs(one) + 1
+        if word == "name" and isinstance(one, str) and one in lets:
+            return lets[one]
+    elif things > 3:
+        return weighed_long(field, lets)
+    raise NoRules()
 
 
-def nearest_let(name, lets):
-    """The nearest let of a name: the name, the field it holds, and the lets around that one."""
-    while lets[0] != name:
-        lets = lets[2]
-    return lets
-
-
-def made_steps(found):
-    """The steps of fields that stand parts ahead of wholes, none twice."""
-    steps = []
-    numbers = {}
-    ready = []
-    for field, dx, dz in found:
-        step = step_for(field, dx, dz, ready)
-        if step not in numbers:
-            numbers[step] = len(steps)
-            steps.append(step)
-        ready.append(numbers[step])
-    return steps
-
-
-def step_for(field, dx, dz, ready):
-    """The step of a field; takes the numbers of its parts' steps from the end of ready."""
+def weighed_long(field, lets):
+    """What is told by weighed, of a field of more than three things."""
     word = field[0]
-    if word == "x":
-        return ("x", dx)
-    if word == "z":
-        return ("z", dz)
-    if word == "noise":
-        return ("noise", field[1], field[2], dx, dz)
-    if word == "whole":
-        return ("whole", field[1])
-    start = len(ready) - SHAPES[word].count("field")
-    numbers = ready[start:]
-    del ready[start:]
-    if word == "over":
-        return ("over", numbers[0], field[2])
-    return (word, *numbers)
+    if len(field) == 4:
+        _, one, other, part = field
+        if word == "let" and is_name(one):
+            return weighed(part, {**lets, one: weighed(other, lets)})
+        if word == "shift" and is_from(one, -1000, 1000) and is_from(other, -1000, 1000):
+            many, great = weighed(part, lets)
+            return many + 1, great
+    elif len(field) == 5 and word == "below":
+        weights = [weighed(part, lets) for part in field[1:]]
+        return 1 + sum([many for many, _ in weights]), sum([great for _, great in weights])
+    raise NoRules()
+
+
+def must_ranges(steps):
+    """Refuse rules whose steps have a range that goes too far."""
+    for low, high in ranges_of(steps, 0, ALL_POINTS):
+        if low < -GREATEST_VALUE or high > GREATEST_VALUE:
+            raise NoRules((), "great")
+
+
+# Steps.
+
+
+def placed(field, dx, dz, lets, made):
+    """The number of a field's step, put behind the steps made so far where it isn't among them.
+
+    dx and dz are what the shifts around the field come to; lets has, of each let around, its A and the
+    lets around that one.
+    """
+    word = field[0]
+    while word == "let" or word == "name":
+        if word == "let":
+            lets = {**lets, field[1]: (field[2], lets)}
+            field = field[3]
+        else:
+            field, lets = lets[field[1]]
+        word = field[0]
+    if word in PAIRS:
+        one = placed(field[1], dx, dz, lets, made)
+        step = (word, one, placed(field[2], dx, dz, lets, made))
+    elif word == "noise":
+        step = (word, field[1], field[2], dx, dz)
+    elif word == "x":
+        step = (word, dx)
+    elif word == "z":
+        step = (word, dz)
+    elif word == "whole":
+        step = (word, field[1])
+    elif word == "over":
+        step = (word, placed(field[1], dx, dz, lets, made), field[2])
+    elif word == "shift":
+        return placed(field[3], dx + field[1], dz + field[2], lets, made)
+    else:
+        step = (word, *[placed(part, dx, dz, lets, made) for part in field[1:]])
+    return made.setdefault(step, len(made))
 
 
 # Values.
-
-
-def step_value(step, values, seed, x, z):
-    """The value of a step at (x, z), where values has those of all steps ahead."""
-    word = step[0]
-    if word == "whole":
-        return step[1]
-    if word == "x":
-        return x + step[1]
-    if word == "z":
-        return z + step[1]
-    if word == "noise":
-        return noise_value(seed, step[1], step[2], x + step[3], z + step[4])
-    if word == "over":
-        return values[step[1]] // step[2]
-    if word == "below":
-        found = 3 if values[step[1]] < values[step[2]] else 4
-        return values[step[found]]
-    return joined_value(word, values[step[1]], values[step[2]])
 
 
 def joined_value(word, one, other):
@@ -233,50 +200,45 @@ def joined_value(word, one, other):
     if word == "times":
         return one * other
     if word == "least":
-        return min(one, other)
-    return max(one, other)
-
-
-def noise_value(seed, salt, log, x, z):
-    """The noise at (x, z): between the four knots around it by how near they are."""
-    size = 1 << log
-    i, p = divmod(x, size)
-    j, q = divmod(z, size)
-    near = (size - p) * knot(seed, salt, i, j) + p * knot(seed, salt, i + 1, j)
-    far = (size - p) * knot(seed, salt, i, j + 1) + p * knot(seed, salt, i + 1, j + 1)
-    return ((size - q) * near + q * far) // (size * size)
+        return one if one < other else other
+    return other if one < other else one
 
 
 # Ranges.
 
 
+def steps_range(steps, seed, box):
+    """The range (LOW, HIGH) of the last of some steps over a box."""
+    if box[0] == box[2] and box[1] == box[3]:
+        value = run_steps(steps, seed, box[0], box[1])
+        return (value, value)
+    return ranges_of(steps, seed, box)[-1]
+
+
 def ranges_of(some, seed, box):
     """The range (LOW, HIGH) of each of some steps over a box."""
+    x0, z0, x1, z1 = box
     ranges = []
     for step in some:
-        ranges.append(step_range(step, ranges, seed, box))
+        word = step[0]
+        if word == "noise":
+            dx, dz = step[3], step[4]
+            found = noise_range(seed, step[1], step[2], (x0 + dx, z0 + dz, x1 + dx, z1 + dz))
+        elif word == "whole":
+            found = (step[1], step[1])
+        elif word == "x":
+            found = (x0 + step[1], x1 + step[1])
+        elif word == "z":
+            found = (z0 + step[1], z1 + step[1])
+        elif word == "over":
+            low, high = ranges[step[1]]
+            found = (low // step[2], high // step[2])
+        elif word == "below":
+            found = below_range([ranges[number] for number in step[1:]])
+        else:
+            found = joined_range(word, ranges[step[1]], ranges[step[2]])
+        ranges.append(found)
     return ranges
-
-
-def step_range(step, ranges, seed, box):
-    """The range of a step over a box, where ranges has those of all steps ahead."""
-    word = step[0]
-    if word == "whole":
-        return (step[1], step[1])
-    if word == "x":
-        return (box[0] + step[1], box[2] + step[1])
-    if word == "z":
-        return (box[1] + step[1], box[3] + step[1])
-    if word == "noise":
-        dx, dz = step[3], step[4]
-        shifted = (box[0] + dx, box[1] + dz, box[2] + dx, box[3] + dz)
-        return noise_range(seed, step[1], step[2], shifted)
-    if word == "over":
-        low, high = ranges[step[1]]
-        return (low // step[2], high // step[2])
-    if word == "below":
-        return below_range([ranges[number] for number in step[1:]])
-    return joined_range(word, ranges[step[1]], ranges[step[2]])
 
 
 def below_range(parts):
@@ -291,39 +253,15 @@ def below_range(parts):
 
 def joined_range(word, one, other):
     """What a word of two fields makes of their ranges."""
+    low, high = one
+    least, most = other
     if word == "plus":
-        return (one[0] + other[0], one[1] + other[1])
+        return (low + least, high + most)
     if word == "less":
-        return (one[0] - other[1], one[1] - other[0])
+        return (low - most, high - least)
     if word == "least":
-        return (min(one[0], other[0]), min(one[1], other[1]))
+        return (low if low < least else least, high if high < most else most)
     if word == "most":
-        return (max(one[0], other[0]), max(one[1], other[1]))
-    products = [low * high for low in one for high in other]
+        return (low if low > least else least, high if high > most else most)
+    products = (low * least, low * most, high * least, high * most)
     return (min(products), max(products))
-
-
-def noise_range(seed, salt, log, box):
-    """The range of noise over a box; of many squares only what no knot is beyond."""
-    size = 1 << log
-    columns = box[2] // size - box[0] // size + 1
-    rows = box[3] // size - box[1] // size + 1
-    if columns * rows > MOST_SQUARES:
-        return (0, GREATEST_KNOT)
-    # From one knot to the next noise goes straight, so it is least and greatest where the box
-    # ends or a square begins.
-    values = []
-    for x in turns(box[0], box[2], size):
-        for z in turns(box[1], box[3], size):
-            values.append(noise_value(seed, salt, log, x, z))
-    return (min(values), max(values))
-
-
-def turns(low, high, size):
-    """Both ends of a stretch from low to high, and where squares begin between them."""
-    found = [low]
-    for begin in range((low // size + 1) * size, high, size):
-        found.append(begin)
-    if high > low:
-        found.append(high)
-    return found

@@ -14,14 +14,14 @@ def is_whole(thing):
 
 def is_from(thing, low, high):
     """Whether a thing is a whole number from low to high."""
-    return is_whole(thing) and low <= thing <= high
+    return isinstance(thing, int) and low <= thing <= high and not isinstance(thing, bool)
 
 
 def is_name(thing):
     """Whether a thing is a name: a text of one to eight small letters a to z."""
-    if not isinstance(thing, str) or not 1 <= len(thing) <= LONGEST_NAME:
-        return False
-    return all(["a" <= sign <= "z" for sign in thing])
+    # Within ASCII no sign but a to z is a small letter.
+    return isinstance(thing, str) and thing.isascii() and thing.isalpha() and thing.islower() and (
+        len(thing) <= LONGEST_NAME)
 
 
 def is_point(x, z):

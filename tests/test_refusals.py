@@ -289,12 +289,45 @@ class TooMany(Refusing):
         with within_seconds(5):
             self.refused(("let", "a", Z, rules), (), "great")
 
+    def test_products_of_products(self):
+        # Each name is the product of the one before with itself: of numbers with figures without end.
+        rules = ("name", "a")
+        for _ in range(58):
+            rules = ("let", "a", ("times", ("name", "a"), ("name", "a")), rules)
+        with within_seconds(5):
+            self.refused(("let", "a", X, rules), (), "great")
+            self.taken(("let", "a", X, ("let", "b", rules, Z)))
+
     def test_names_for_names(self):
         rules = deep_in(("name", "a"), 99, lambda field: ("plus", field, ("name", "a")))
         for _ in range(57):
             rules = ("let", "a", ("name", "a"), rules)
         with within_seconds(5):
             self.assertEqual(value_at(("let", "a", X, rules), 0, 3, 0), 300)
+
+
+class NotAsFarAsItLooks(Refusing):
+    """Ranges that stay within, though the greatest numbers of their parts put together don't."""
+
+    def test_parts_that_are_made_small(self):
+        small = ("over", ("times", X, X), 10 ** 9)
+        self.taken(deep_in(small, 5, lambda field: ("times", field, small)))
+        least = ("least", X, ("whole", 9))
+        most = ("most", least, ("whole", -9))
+        self.taken(deep_in(most, 30, lambda field: ("times", field, most)))
+        self.refused(deep_in(most, 31, lambda field: ("times", field, most)), (), "great")
+
+    def test_parts_that_are_never_chosen(self):
+        fifth = deep_in(X, 4, lambda field: ("times", field, X))
+        self.taken(fifth)
+        self.taken(("least", fifth, fifth))
+        self.taken(("over", ("most", fifth, ("whole", 3)), 7))
+        self.taken(("below", Z, ("whole", 10 ** 8), fifth, ("x",)))
+
+    def test_values_are_told(self):
+        fifth = deep_in(X, 4, lambda field: ("times", field, X))
+        self.assertEqual(value_at(("least", fifth, fifth), 0, -7, 0), -7 ** 5)
+        self.assertEqual(bounds_of(("least", fifth, fifth), 0, (0, 0, 10 ** 6, 0)), (0, 10 ** 30))
 
 
 class TooFar(Refusing):
