@@ -21,6 +21,8 @@ def noise_value(seed, salt, log, x, z):
 
 def noise_grid(seed, salt, log, xs, zs):
     """The noise at each x of rising xs with each z of rising zs, in order, as one list."""
+    if log == 0:
+        return [value for x in xs for value in knot_row(seed, salt, x, zs)]
     size = 1 << log
     twice = log + log
     places, spots = knots_beside(log, zs)
@@ -30,17 +32,25 @@ def noise_grid(seed, salt, log, xs, zs):
         i, p = x >> log, x & (size - 1)
         if i not in rows:
             rows[i] = knot_row(seed, salt, i, places)
-        near = [(size - p) * one for one in rows[i]]
-        if p:
+        near = rows[i]
+        if p == 0:
+            near = [one << log for one in near]
+        else:
             if i + 1 not in rows:
                 rows[i + 1] = knot_row(seed, salt, i + 1, places)
-            near = [one + p * two for one, two in zip(near, rows[i + 1])]
-        values += [((size - q) * near[low] + q * near[high]) >> twice for low, high, q in spots]
+            near = [(one << log) + p * (two - one) for one, two in zip(near, rows[i + 1])]
+        # Where q is 0 nothing is asked of the next one, so the last one's may be any.
+        slopes = [high - low for low, high in zip(near, near[1:])] + [0]
+        starts = [low << log for low in near]
+        values += [(starts[at] + q * slopes[at]) >> twice for at, q in spots]
     return values
 
 
 def knots_beside(log, zs):
-    """The places of all knots that lie beside rising zs; for each z where in these its two are, and q."""
+    """The places of all knots that lie beside rising zs; for each z where in these its first one is, and q.
+
+    Where q isn't 0 its second one comes next.
+    """
     size = 1 << log
     places = []
     spots = []
@@ -52,7 +62,7 @@ def knots_beside(log, zs):
         low = len(places) - 1 - (places[-1] - j)
         if q and places[-1] == j:
             places.append(j + 1)
-        spots.append((low, len(places) - 1 if q else low, q))
+        spots.append((low, q))
     return places, spots
 
 

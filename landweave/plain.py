@@ -48,3 +48,22 @@ def must_box(box):
     """Refuse a box with NoBox where it is none."""
     if not is_box(box):
         raise NoBox()
+
+
+def must_box_of(box, most):
+    """Refuse a box with NoBox where it is none, or one of more than so many points."""
+    must_box(box)
+    if (box[2] - box[0] + 1) * (box[3] - box[1] + 1) > most:
+        raise NoBox()
+
+
+def shared_box(one, other):
+    """The box of the points that two boxes have in common, or None."""
+    if one[0] > other[2] or other[0] > one[2] or one[1] > other[3] or other[1] > one[3]:
+        return None
+    return (max(one[0], other[0]), max(one[1], other[1]), min(one[2], other[2]), min(one[3], other[3]))
+
+
+def holds_box(one, other):
+    """Whether a box has all points of another one."""
+    return one[0] <= other[0] and one[1] <= other[1] and other[2] <= one[2] and other[3] <= one[3]

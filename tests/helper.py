@@ -142,6 +142,136 @@ def put_steps(field, dx, dz, steps):
     return steps.index(step)
 
 
+def plain_height(rules, seed, edits, x, z):
+    """A land's height, straight by points 10 and 13, going back from the last edit."""
+    if not edits:
+        return bare_value(bare(rules), seed, x, z)
+    *ahead, (word, box, *things) = edits
+    if not (box[0] <= x <= box[2] and box[1] <= z <= box[3]):
+        return plain_height(rules, seed, ahead, x, z)
+    if word == "set":
+        return things[0]
+    if word == "field":
+        return bare_value(bare(things[0]), seed, x, z)
+    if word == "copy":
+        return plain_height(rules, seed, ahead, x + things[0], z + things[1])
+    height = plain_height(rules, seed, ahead, x, z)
+    return {"raise": height + things[0], "least": max(height, things[0]), "most": min(height, things[0])}[word]
+
+
+class PlainDeeds:
+    """What stands behind deeds, straight by point 14: a list of [NUMBER, EDIT] for each time."""
+
+    def __init__(self):
+        self.rows = []
+        self.next = 1
+        self.done = []
+        self.undone = []
+
+    def do(self, rows, used=0):
+        self.done.append((self.rows, rows))
+        self.undone = []
+        self.rows = rows
+        self.next += used
+
+    def put(self, edits, rows=None):
+        rows = list(self.rows if rows is None else rows)
+        return rows + [(self.next + at, edit) for at, edit in enumerate(edits)]
+
+    def edit(self, edit):
+        self.do(self.put([edit]), 1)
+        return self.next - 1
+
+    def without(self, number, rows=None):
+        return [row for row in (self.rows if rows is None else rows) if row[0] != number]
+
+    def swapped(self, one, other, rows=None):
+        rows = list(self.rows if rows is None else rows)
+        numbers = [row[0] for row in rows]
+        a, b = numbers.index(one), numbers.index(other)
+        rows[a], rows[b] = rows[b], rows[a]
+        return rows
+
+    def back(self):
+        self.undone.append(self.done.pop())
+        self.rows = self.undone[-1][0]
+
+    def again(self):
+        self.done.append(self.undone.pop())
+        self.rows = self.done[-1][1]
+
+
+class PlainCave:
+    """A cave, straight by point 16: each cell is looked at by itself, kept only for the sake of time."""
+
+    def __init__(self, rules, seed, cut=32768, rounds=2, need=14):
+        self.field, self.seed = bare(rules), seed
+        self.cut, self.rounds, self.need = cut, rounds, need
+        self.deeds = []
+        self.known = {}
+
+    def first(self, rounds, x, y, z):
+        key = (rounds, x, y, z)
+        if key not in self.known:
+            if rounds == 0:
+                rock = bare_value(self.field, self.seed + y, x, z) >= self.cut
+            else:
+                around = itertools.product((x - 1, x, x + 1), (y - 1, y, y + 1), (z - 1, z, z + 1))
+                rock = sum(self.first(rounds - 1, *cell) for cell in around) >= self.need
+            self.known[key] = rock
+        return self.known[key]
+
+    def is_rock(self, x, y, z):
+        for rock, room in reversed(self.deeds):
+            if room[0] <= x <= room[3] and room[1] <= y <= room[4] and room[2] <= z <= room[5]:
+                return rock
+        return self.first(self.rounds, x, y, z)
+
+    def block(self, room):
+        x0, y0, z0, x1, y1, z1 = room
+        return [["".join(".#"[self.is_rock(x, y, z)] for x in range(x0, x1 + 1)) for z in range(z0, z1 + 1)]
+                for y in range(y0, y1 + 1)]
+
+
+def cells_in(room):
+    return itertools.product(*(range(room[at], room[at + 3] + 1) for at in (0, 1, 2)))
+
+
+def touching(cell):
+    """The six cells beside a cell."""
+    for at in (0, 1, 2):
+        for by in (-1, 1):
+            yield tuple(part + by * (at == place) for place, part in enumerate(cell))
+
+
+def plain_lots(cave, room):
+    """The lots of open cells of a room, straight by point 17."""
+    left = {cell for cell in cells_in(room) if not cave.is_rock(*cell)}
+    lots = []
+    while left:
+        lot, todo = set(), [min(left)]
+        while todo:
+            cell = todo.pop()
+            if cell in left:
+                left.discard(cell)
+                lot.add(cell)
+                todo.extend(touching(cell))
+        lots.append(sorted(lot))
+    return lots
+
+
+def plain_way(cells, one, other):
+    """How many cells the shortest way has from one open cell to another, or None."""
+    known, row, many = {one}, [one], 1
+    while row:
+        if other in row:
+            return many
+        row = sorted({near for cell in row for near in touching(cell) if near in cells} - known)
+        known.update(row)
+        many += 1
+    return None
+
+
 class Chance:
     """Rules, points and boxes by chance, the same ones from the same number."""
 
@@ -198,6 +328,18 @@ class Chance:
         x, z = self.point()
         wide, deep = self.random.randint(1, most), self.random.randint(1, most)
         return (max(x - wide + 1, -10 ** 6), max(z - deep + 1, -10 ** 6), x, z)
+
+    def edit(self, box, rules):
+        """An edit of a part of a box, its rules one of some."""
+        pick = self.random
+        word = pick.choice(("set", "raise", "least", "most", "field", "copy", "copy"))
+        part = self.part(box) if pick.random() < 0.9 else box
+        if word == "copy":
+            return (word, part, pick.randint(-9, 9), pick.choice((0, 1, -3, 1000, pick.randint(-9, 9))))
+        return (word, part, pick.choice(rules) if word == "field" else pick.randint(-900, 900))
+
+    def edits(self, many, box, rules):
+        return [self.edit(box, rules) for _ in range(many)]
 
     def part(self, box):
         """A box within a box."""

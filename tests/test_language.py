@@ -106,6 +106,9 @@ class Language(unittest.TestCase):
 
     def test_interface_stands_where_it_should(self):
         told = {"knots": "knot",
+                "land": "Land needless thinned covered_by",
+                "squares": "square_at tall shows_tall highest shows_highest",
+                "caves": "Cave rooms_in by_blocks same_room shows_same",
                 "fields": "must_rules value_at steps_of run_steps bounds_of",
                 "errors": "LandError NoRules NoBox NoPoint NoLevel NoCount NoEdit Full NoDeed NoBrush "
                           "NoText NoLine NoSuch"}
@@ -113,6 +116,23 @@ class Language(unittest.TestCase):
             tree = ast.parse((PACKAGE / (file + ".py")).read_text())
             found = {node.name for node in tree.body if isinstance(node, (ast.FunctionDef, ast.ClassDef))}
             self.assertLessEqual(set(names.split()), found, file)
+
+    def test_methods_stand_in_their_class(self):
+        told = {"Land": "__init__ __eq__ __len__ height rules seed tile bounds edit drop swap pour many back again "
+                        "edits twin",
+                "Cave": "__init__ is_rock block dig fill back again twin"}
+        found = {node.name: {part.name for part in node.body if isinstance(part, ast.FunctionDef)}
+                 for _, tree in trees() for node in tree.body if isinstance(node, ast.ClassDef)}
+        for name, methods in told.items():
+            self.assertLessEqual(set(methods.split()), found[name], name)
+
+    def test_words_that_hang_on_classes_that_compare(self):
+        """With __eq__ and __len__ about: no .sort(), and no generator expression in any, all, sum and the like."""
+        for path, tree in trees():
+            for node in ast.walk(tree):
+                self.assertNotIsInstance(node, ast.GeneratorExp, f"{path}:{getattr(node, 'lineno', 0)}")
+                if isinstance(node, ast.Attribute):
+                    self.assertNotIn(node.attr, ("sort", "format", "format_map"), path)
 
 
 if __name__ == "__main__":
