@@ -10,7 +10,9 @@ CAVES = ("noise", 5, 2)
 MIXED = ("plus", ("over", ("noise", 5, 1), 2), ("over", ("noise", 6, 3), 2))
 END = 10 ** 6
 NO_ROOMS = ((1, 0, 0, 0, 0, 0), (0, 1, 0, 0, 0, 0), (0, 0, 1, 0, 0, 0), (0, -1, 0, 0, 0, 0), (0, 0, 0, 0, 64, 0),
-            (END + 1, 0, 0, END + 1, 0, 0), (0, 0, -END - 1, 0, 0, 0), (0, 0, 0, True, 0, 0), (10 ** 29,) * 6)
+            (END + 1, 0, 0, END + 1, 0, 0), (0, 0, -END - 1, 0, 0, 0), (0, 0, 0, True, 0, 0), (10 ** 29,) * 6,
+            (-END - 1, 0, 0, 0, 0, 0), (0, 0, 0, END + 1, 0, 0), (0, 0, 0, 0, 0, END + 1), (False, 0, 0, 5, 5, 5),
+            (0, False, 0, 5, 5, 5), (0, 0, False, 5, 5, 5), (0, 0, 0, 5, True, 5), (0, 0, 0, 5, 5, True))
 
 
 class Made(unittest.TestCase):
@@ -150,6 +152,17 @@ class Deeds(unittest.TestCase):
         self.assertIs(cave.is_rock(END, 63, -END), False)
         cave.fill(room=(0, 0, 0, 100, 63, 100))
         self.assertEqual(cave.block((-1, 0, 0, 2, 0, 0)), [[".###"]])
+
+    def test_rooms_apart_in_one_way_alone(self):
+        room = (10, 10, 10, 13, 13, 13)
+        free = Cave(("whole", 0), 3).block(room)
+        for at in (0, 1, 2):
+            for low, high in ((0, 9), (14, 63), (3, 5), (20, 30)):
+                cave = Cave(("whole", 0), 3)
+                cave.fill(tuple(low if place == at else 10 for place in (0, 1, 2)) +
+                          tuple(high if place == at else 13 for place in (0, 1, 2)))
+                self.assertEqual(cave.block(room), free)
+                self.assertIs(cave.is_rock(10, 10, 10), False)
 
     def test_behind_the_rounds(self):
         cave = Cave(("whole", 0), 3, rounds=2, need=1)

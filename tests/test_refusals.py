@@ -52,6 +52,13 @@ def put(field, place, part):
     return field[:place] + (part,) + field[place + 1:]
 
 
+def put_all(field, places, part):
+    """A field with a part at its first place of a field, and wholes at its others."""
+    for place in places[1:]:
+        field = put(field, place, ONE)
+    return put(field, places[0], part)
+
+
 def grown(many):
     """A field of so many fields, with wholes only for ends."""
     field = ONE
@@ -94,6 +101,12 @@ class Kinds(Refusing):
             for place in places:
                 for other, _, _, _ in WORDS:
                     self.taken(put(field, place, other))
+
+    def test_other_words_in_each_shape(self):
+        for field, _, _, _ in WORDS + ((("name", "a"), (), (), ()),):
+            for word in (field[0] + "s", field[0].title(), "nope", "", None, 3, (field[0],), [field[0]]):
+                self.refused((word, *field[1:]), (), "kind")
+                self.refused(("let", "a", X, (word, *field[1:])), (3,), "kind")
 
     def test_one_thing_less_or_more(self):
         for field, _, _, _ in WORDS:
@@ -229,6 +242,17 @@ class TooMany(Refusing):
         for many in (201, 202, 300):
             self.assertEqual(count_of(grown(many)), many)
             self.refused(grown(many), (), "great")
+
+    def test_each_word_counts_as_one(self):
+        for field, places, _, _ in WORDS:
+            if not places or field[0] == "let":
+                continue
+            rules = X
+            while count_of(bare(put_all(field, places, rules))) <= 200:
+                rules = put_all(field, places, rules)
+            rules = deep_in(rules, 200 - count_of(bare(rules)), lambda part: ("over", part, 1))
+            self.taken(rules)
+            self.refused(("over", rules, 1), (), "great")
 
     def test_with_names_exchanged(self):
         four = ("least", ("least", ("name", "a"), ("name", "a")), ("least", ("name", "a"), ("name", "a")))

@@ -158,7 +158,8 @@ class Ways(unittest.TestCase):
     def test_refused(self):
         cave = Cave(CAVES, 4)
         room = (0, 3, 0, 6, 8, 5)
-        for bad in ((7, 3, 0), (0, 2, 0), (0, 3, 6), (-1, 3, 0), (0, 9, 0), (10 ** 29, 3, 0), (True, 3, 0), (0, 3), None):
+        for bad in ((7, 3, 0), (0, 2, 0), (0, 3, 6), (-1, 3, 0), (0, 9, 0), (10 ** 29, 3, 0), (True, 3, 0), (0, 3, True),
+                    (0, 3), None):
             for one, other in ((bad, (0, 3, 0)), ((0, 3, 0), bad), (bad, bad)):
                 for asked in (lambda: same_room(cave, room, one, other),
                               lambda: shows_same(cave, room, one, other, ("way", [one, other]))):
@@ -190,6 +191,14 @@ class Lookers(unittest.TestCase):
                      [a, b, a, b, c, d, e], [a, b, c, (3, 0, 0), e], [a, b, d, c, e],
                      [a, (-1, 0, 0), c, d, e], [a, (10 ** 29, 0, 0), c, d, e]):
             self.assertIs(self.shows(a, e, "way", bent), False, bent)
+        for word, told in (("apart", [a]), ("apart", [a, b]), ("rock", a), ("rock", e), ("apart", [])):
+            self.assertIs(self.shows(a, e, word, told), False)
+            self.assertIs(self.shows(a, a, word, told), False)
+        self.assertIs(self.shows(b, c, "way", [d, c]), False)
+        self.assertIs(self.shows(b, c, "way", [b, a]), False)
+        self.assertIs(self.shows(b, c, "way", [(1, 0, 1), c]), False)
+        self.assertIs(self.shows(c, a, "way", [d, c, b]), False)
+        self.assertIs(self.shows(a, a, "way", [b]), False)
         self.assertIs(self.shows(a, a, "way", [a, b, a]), False)
         self.assertIs(self.shows(a, a, "way", []), False)
 
@@ -202,6 +211,8 @@ class Lookers(unittest.TestCase):
         for bent in ([], ring[1:], ring[:-1], ring[:3] + ring[4:], ring[::-1], ring + [ring[-1]], ring + line,
                      ring + [(3, 0, 0)], line, ring + [(5, 0, 0)], [(-1, 0, 0)] + ring, ring + [(10 ** 29, 0, 0)]):
             self.assertIs(self.shows(one, other, "apart", bent), False, bent)
+        for word, told in (("way", ring), ("way", [one, other]), ("rock", one), ("rock", other), ("way", [])):
+            self.assertIs(self.shows(one, other, word, told), False)
         self.assertIs(self.shows(one, (2, 0, 2), "apart", ring), False)
         self.assertIs(self.shows(one, (2, 0, 2), "apart", ring[:-1]), False)
         self.assertIs(self.shows(one, one, "apart", ring), False)

@@ -77,6 +77,19 @@ class Bounds(unittest.TestCase):
             self.assertTrue(low <= min(heights) and max(heights) <= high, edit)
             self.assertEqual(land.bounds((6, 0, 9, 9)), (6, 9))
 
+    def test_what_a_part_reads_from_afar(self):
+        for at, rules in ((0, ("x",)), (1, ("z",))):
+            for by in (-500, 500):
+                for other in (-300, 0, 300):
+                    shift = (by, other) if at == 0 else (other, by)
+                    for part in ((0, 100, 4, 119), (3, 95, 30, 104), (19, 119, 19, 119)):
+                        land = land_of(rules, 1, [("copy", part, *shift)])
+                        box = (0, 100, 19, 119)
+                        low, high = land.bounds(box)
+                        heights = [land.height(x, z) for x, z in points_in(box)]
+                        self.assertTrue(low <= min(heights) and max(heights) <= high)
+                        self.within(land, box, (0, 100, 3, 103))
+
     def test_copies_of_copies(self):
         box = (0, 0, 63, 63)
         for shifts in ([(3, 5)] * 16, [(0, 0)] * 16, [(2 ** (at % 10), -at) for at in range(60)],
@@ -157,6 +170,15 @@ class Searches(unittest.TestCase):
         self.assertEqual(tall(land, (0, 0, 63, 63), least=10 ** 29)[1:], ([], [(0, 0, 63, 63)]))
         flat = Land(("whole", 5), 1)
         self.assertEqual(highest(flat, (-3, -3, 60, 60))[:3], ("highest", (-3, -3), 5))
+
+    def test_as_high_ahead_of_what_may_be_higher(self):
+        # The later box may be as high as 20 by its bounds, and is 5; the one ahead is 5 and can't be more.
+        flat = ("plus", ("whole", 5), ("less", ("x",), ("x",)))
+        land = land_of(("whole", 0), 1, [("set", (16, 0, 31, 15), 5), ("field", (48, 48, 63, 63), flat)])
+        self.assertGreater(land.bounds((48, 48, 63, 63))[1], 5)
+        self.assertEqual(highest(land, (0, 0, 63, 63))[:3], ("highest", (16, 0), 5))
+        land.drop(1)
+        self.assertEqual(highest(land, (0, 0, 63, 63))[:3], ("highest", (48, 48), 5))
 
     def test_small_and_long_boxes(self):
         land = Land(HILLS, 1)

@@ -145,6 +145,20 @@ class Memories(unittest.TestCase):
         land.back()
         self.assertEqual(land.tile(0, 62, 0), before)
 
+    def test_deeds_at_the_front(self):
+        box = (0, 0, 9, 9)
+        land = land_of(HILLS, 4, [("set", box, 3), ("set", box, 4), ("raise", (0, 0, 0, 0), 1), ("raise", box, 9)])
+        for deed, height in ((lambda: land.swap(1, 2), 12), (lambda: land.swap(2, 1), 13), (lambda: land.drop(2), 12),
+                             (lambda: land.back(), 13), (lambda: land.many([("drop", 4), ("drop", 2)]), 3),
+                             (lambda: land.back(), 13), (lambda: land.swap(2, 4), 4),
+                             (lambda: land.back(), 13), (lambda: land.pour(land), 13)):
+            square_at(land, 1, 0, 0)
+            land.tile(0, 0, 0)
+            deed()
+            self.assertEqual(land.height(5, 5), height)
+            self.assertEqual(land.tile(0, 0, 0), plain_tile(land, 0, 0, 0))
+            self.assertEqual(square_at(land, 1, 0, 0), plain_square(land, 1, 0, 0))
+
     def test_a_told_tile_may_be_changed(self):
         for memory in (0, 64):
             land = Land(HILLS, 8, memory=memory)
