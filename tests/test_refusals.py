@@ -243,6 +243,13 @@ class TooMany(Refusing):
             self.assertEqual(count_of(grown(many)), many)
             self.refused(grown(many), (), "great")
 
+    def test_each_end_counts_as_one(self):
+        for end in (X, Z, ONE, ("noise", 3, 4)):
+            rules = deep_in(end, 99, lambda field: ("least", field, end))
+            self.taken(("over", rules, 1))
+            self.refused(("over", ("over", rules, 1), 1), (), "great")
+            self.refused(("least", rules, end), (), "great")
+
     def test_each_word_counts_as_one(self):
         for field, places, _, _ in WORDS:
             if not places or field[0] == "let":

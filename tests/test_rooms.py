@@ -236,6 +236,9 @@ class Lookers(unittest.TestCase):
         for bent in (other, free, (9, 9, 9), (10 ** 29, 0, 0)):
             self.assertIs(self.shows(rock, other, "rock", bent), False)
         self.assertIs(self.shows(free, (0, 0, 1), "rock", free), False)
+        self.assertIs(self.shows(rock, (0, 0, 2), "way", [rock, (0, 0, 1), (0, 0, 2)]), False)
+        self.assertIs(self.shows((0, 0, 2), rock, "way", [(0, 0, 2), (0, 0, 1), rock]), False)
+        self.assertIs(self.shows(rock, (4, 0, 0), "apart", [rock, (1, 0, 0), (1, 0, 2)]), False)
         for word, told in (("way", [rock]), ("way", [rock, free]), ("apart", [rock]), ("apart", [])):
             self.assertIs(self.shows(rock, free, word, told), False)
             self.assertIs(self.shows(rock, rock, word, told), False)

@@ -197,6 +197,11 @@ class Searches(unittest.TestCase):
                           lambda: shows_highest(land, box, ("highest", (0, 0), 3, []))):
                 with self.subTest(box=box), self.assertRaises(NoBox):
                     asked()
+        for box in ((100, -50, 164, 13), (100, -50, 163, 14), (-999, 3000, -999, 7096), (3000, -999, 7096, -999)):
+            with self.subTest(box=box), self.assertRaises(NoBox):
+                highest(land, box)
+        for box in ((100, -50, 163, 13), (-999, 3000, -999, 7095), (3000, -999, 7095, -999)):
+            self.assertIs(shows_highest(land, box, highest(land, box)), True)
         self.assertEqual(tall(land=land, box=(0, 0, 1, 1), least=0), tall(land, (0, 0, 1, 1), least=0))
         self.assertEqual(highest(box=(0, 0, 1, 1), land=land), highest(land, (0, 0, 1, 1)))
 
