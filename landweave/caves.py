@@ -1,9 +1,10 @@
 """Caves: cells of rock and open ones by rules, smoothed by rounds, dug and filled by deeds."""
 
 from landweave.cells import (
-    cells_beside, holds_cell, must_cell, must_room, must_small_room, rock_stack, shared_room)
+    cells_beside, cells_of, holds_cell, must_cell, must_room, must_small_room, rock_stack, shared_room)
 from landweave.errors import NoCount, NoDeed, NoPoint
 from landweave.fields import steps_of
+from landweave.memory import Memory
 from landweave.plain import is_from
 
 CUT = 32768
@@ -12,6 +13,12 @@ NEED = 14
 MOST_ROUNDS = 2
 MOST_NEED = 28
 LONGEST_SIDE = 12
+
+# Cells asked for one by one, or as rooms of so few cells, come out of lumps of LUMP cells either way;
+# so many lumps are kept.
+LUMP = 4
+FEW_CELLS = 8
+MOST_LUMPS = 200
 
 
 class Cave:
@@ -28,6 +35,7 @@ class Cave:
         self._need = need
         self._done = []
         self._undone = []
+        self._lumps = Memory(MOST_LUMPS)
 
     def is_rock(self, x, y, z):
         """Whether the cell (x, y, z) is rock."""
@@ -35,7 +43,7 @@ class Cave:
         for room, rock in reversed(self._done):
             if holds_cell(room, x, y, z):
                 return rock
-        return self._stack((x, y, z, x, y, z))[0][0][0]
+        return self._first_rock(x, y, z)
 
     def block(self, room):
         """A list with, for each y, a list with, for each z, a text of "#" and "." for each x."""
@@ -82,7 +90,23 @@ class Cave:
 
     def _stack(self, room):
         """Which cells of a room are rock behind the rounds, ahead of all deeds."""
-        return rock_stack(self._steps, self._seed, self._cut, self._rounds, self._need, room)
+        x0, y0, z0, x1, y1, z1 = room
+        if cells_of(room) > FEW_CELLS:
+            return rock_stack(self._steps, self._seed, self._cut, self._rounds, self._need, room)
+        return [[[self._first_rock(x, y, z) for z in range(z0, z1 + 1)] for x in range(x0, x1 + 1)]
+                for y in range(y0, y1 + 1)]
+
+    def _first_rock(self, x, y, z):
+        """Whether a cell is rock behind the rounds, ahead of all deeds."""
+        key = (x // LUMP, y // LUMP, z // LUMP)
+        lump = self._lumps.kept(key)
+        if lump is None:
+            low = [LUMP * part for part in key]
+            high = [LUMP * part + LUMP - 1 for part in key]
+            lump = self._stack((*low, *high))
+            # Lumps lie ahead of all deeds, so none is ever forgotten by a box.
+            self._lumps.keep(key, None, lump)
+        return lump[y % LUMP][x % LUMP][z % LUMP]
 
 
 def put_part(stack, room, part, rock):
@@ -200,10 +224,12 @@ def joined_lots(lots):
 
 def same_room(cave, room, one, other):
     """("way", CELLS) from one cell to another, ("apart", LOT) of the one, or ("rock", CELL)."""
-    must_small_room(room)
-    must_be_in(room, one)
-    must_be_in(room, other)
-    cells = open_cells(cave, room)
+    must_two(room, one, other)
+    return same_of(open_cells(cave, room), one, other)
+
+
+def same_of(cells, one, other):
+    """What same_room tells, by the open cells of a room."""
     for cell in (one, other):
         if cell not in cells:
             return ("rock", cell)
@@ -211,6 +237,13 @@ def same_room(cave, room, one, other):
     if other not in before:
         return ("apart", sorted(before))
     return ("way", way_to(before, other))
+
+
+def must_two(room, one, other):
+    """Refuse what is no room to look through, and what are no two cells of it."""
+    must_small_room(room)
+    must_be_in(room, one)
+    must_be_in(room, other)
 
 
 def must_be_in(room, cell):
@@ -233,13 +266,14 @@ def way_to(before, cell):
 
 def shows_same(cave, room, one, other, told):
     """Whether same_room may tell so of a cave."""
-    true = same_room(cave, room, one, other)
+    must_two(room, one, other)
+    cells = open_cells(cave, room)
+    true = same_of(cells, one, other)
     if len(told) != 2 or told[0] != true[0]:
         return False
     word, found = told
     if word == "rock":
         return found == true[1]
-    cells = open_cells(cave, room)
     if word == "way":
         return len(found) == len(true[1]) and is_way(cells, one, other, found)
     return is_lot(cells, one, other, found)

@@ -32,8 +32,13 @@ def must_room(room):
 def must_small_room(room):
     """Refuse with NoBox what is no room, or one of more cells than may be looked at."""
     must_room(room)
-    if (room[3] - room[0] + 1) * (room[4] - room[1] + 1) * (room[5] - room[2] + 1) > MOST_CELLS:
+    if cells_of(room) > MOST_CELLS:
         raise NoBox()
+
+
+def cells_of(room):
+    """How many cells a room has."""
+    return (room[3] - room[0] + 1) * (room[4] - room[1] + 1) * (room[5] - room[2] + 1)
 
 
 def holds_cell(room, x, y, z):

@@ -7,7 +7,7 @@ copies of copies there are.
 """
 
 from landweave.errors import NoEdit
-from landweave.fields import run_steps, steps_of, steps_range
+from landweave.fields import run_known, run_steps, steps_of, steps_range
 from landweave.grids import grid_values
 from landweave.plain import is_from, must_box, shared_box
 
@@ -47,8 +47,8 @@ def must_shape(edit):
 # One height.
 
 
-def height_by(layers, steps, seed, x, z):
-    """The height at (x, z) by rules' steps and the layers over them."""
+def height_by(layers, steps, seed, x, z, known):
+    """The height at (x, z) by rules' steps and the layers over them; known has knots by this seed."""
     source = steps
     changes = []
     for word, box, one, other in reversed(layers):
@@ -61,7 +61,7 @@ def height_by(layers, steps, seed, x, z):
                 z += other
             else:
                 changes.append((word, one))
-    height = run_steps(source, seed, x, z)
+    height = run_known(source, seed, x, z, known)
     for word, number in reversed(changes):
         height = changed(word, number, height)
     return height
@@ -123,14 +123,14 @@ def met(start, many, apart, low, high):
 
 def piece_of(whole, part, apart, row):
     """A part of a piece (X, Z, WIDE, DEEP, PLACE), by the places of its rows in the piece."""
-    x, z, _, _, place = whole
     left, near, right, far = part
-    return (x + left * apart, z + near * apart, right - left, far - near, place + left * row + near)
+    place = whole[4] + left * row + near
+    return (whole[0] + left * apart, whole[1] + near * apart, right - left, far - near, place)
 
 
 def parts_beside(whole, part, apart, row):
     """What is left of a piece around a part: at most four pieces."""
-    _, _, wide, deep, _ = whole
+    wide, deep = whole[2], whole[3]
     left, near, right, far = part
     found = []
     for beside in ((0, 0, left, deep), (right, 0, wide, deep), (left, 0, right, near), (left, far, right, deep)):

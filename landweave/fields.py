@@ -49,11 +49,16 @@ def steps_of(rules):
 
 def run_steps(some, seed, x, z):
     """The value of the last of some steps at (x, z), which may lie beyond the land."""
+    return run_known(some, seed, x, z, None)
+
+
+def run_known(some, seed, x, z, known):
+    """What run_steps tells; known has the knots that were asked for by this seed, or is None."""
     values = []
     for step in some:
         word = step[0]
         if word == "noise":
-            value = noise_value(seed, step[1], step[2], x + step[3], z + step[4])
+            value = noise_value(seed, step[1], step[2], x + step[3], z + step[4], known)
         elif word == "whole":
             value = step[1]
         elif word == "x":

@@ -3,12 +3,13 @@
 from landweave.edits import bounds_by, height_by, heights_by, layer_of
 from landweave.errors import Full, NoCount, NoDeed, NoEdit, NoLevel, NoPoint, NoSuch
 from landweave.fields import steps_of
-from landweave.memory import Memory
+from landweave.memory import Memory, is_met
 from landweave.plain import holds_box, is_from, is_point, is_whole, must_box, must_point, shared_box
 
 MEMORY = 64
 GREATEST_MEMORY = 1000
 MOST_EDITS = 60
+MOST_KNOWN = 5000
 HIGHEST_LEVEL = 5
 SIDE = 16
 ROWS = {"edit": 2, "drop": 2, "swap": 3}
@@ -33,6 +34,8 @@ class Land:
         self._next = 1
         self._done = []
         self._undone = []
+        # Knots around places whose heights were asked for: they hang on the seed, so no deed touches them.
+        self._known = {}
         self._tiles = Memory(memory)
         self._squares = Memory(memory)
 
@@ -56,7 +59,9 @@ class Land:
     def height(self, x, z):
         """The height at the point (x, z)."""
         must_point(x, z)
-        return height_by(self._layers, self._steps, self._seed, x, z)
+        if len(self._known) > MOST_KNOWN:
+            self._known = {}
+        return height_by(self._layers, self._steps, self._seed, x, z, self._known)
 
     def heights(self, x, z, wide, deep, apart):
         """The heights of a grid of points, in order, as one list; the points may lie anywhere."""
@@ -243,16 +248,28 @@ def must_row(row):
 
 
 def touched_boxes(before, behind):
-    """The boxes of all edits from the first place on at which two rows of edits aren't the same.
+    """Boxes with all points that two rows of edits make different heights of.
 
-    Edits ahead of that place change the same points in the same way, by copies, too.
+    Edits that both rows begin or end with change the same points in the same way; but of those at the
+    end copies hand on what is different where they read.
     """
-    same = 0
-    for one, other in zip(before, behind):
+    start = same_many(before, behind)
+    end = same_many(before[start:][::-1], behind[start:][::-1])
+    ends = len(before) - end
+    boxes = [entry[1][1] for entry in before[start:ends] + behind[start:len(behind) - end]]
+    for entry in before[ends:]:
+        edit = entry[1]
+        if edit[0] == "copy" and is_met(read_box(edit), boxes):
+            boxes.append(edit[1])
+    return boxes
+
+
+def same_many(before, behind):
+    """How many edits two rows of them have in common, from the first one on."""
+    for place, (one, other) in enumerate(zip(before, behind)):
         if one[1] != other[1]:
-            break
-        same += 1
-    return [entry[1][1] for entry in before[same:] + behind[same:]]
+            return place
+    return min(len(before), len(behind))
 
 
 # Edits that aren't needed.

@@ -1,7 +1,5 @@
 """A memory: what was made when it was asked for, as long as there is room and no deed touches it."""
 
-from landweave.plain import shared_box
-
 
 class Memory:
     """Keeps so many things by their keys, each with the box of the points that it was made of."""
@@ -35,7 +33,8 @@ class Memory:
 
 def is_met(box, boxes):
     """Whether a box has a point in common with some boxes."""
+    x0, z0, x1, z1 = box
     for other in boxes:
-        if shared_box(box, other) is not None:
+        if other[0] <= x1 and x0 <= other[2] and other[1] <= z1 and z0 <= other[3]:
             return True
     return False

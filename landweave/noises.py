@@ -6,14 +6,24 @@ MOST_SQUARES = 64
 GREATEST_KNOT = 65535
 
 
-def noise_value(seed, salt, log, x, z):
-    """The noise at (x, z): between the four knots around it by how near they are."""
+def noise_value(seed, salt, log, x, z, known):
+    """The noise at (x, z): between the four knots around it by how near they are.
+
+    known has the knots around places that were asked for by this seed, and takes these; or it is None.
+    """
     size = 1 << log
     i, j = x >> log, z >> log
     p, q = x & (size - 1), z & (size - 1)
     if p == 0 and q == 0:
         return knot(seed, salt, i, j)
-    one, two, three, four = four_knots(seed, salt, i, j)
+    if known is None:
+        knots = four_knots(seed, salt, i, j)
+    else:
+        knots = known.get((salt, i, j))
+        if knots is None:
+            knots = four_knots(seed, salt, i, j)
+            known[(salt, i, j)] = knots
+    one, two, three, four = knots
     near = (size - p) * one + p * two
     far = (size - p) * three + p * four
     return ((size - q) * near + q * far) >> (log + log)

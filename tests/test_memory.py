@@ -39,10 +39,18 @@ class Memories(unittest.TestCase):
 
     def test_which_boxes_deeds_touch(self):
         one, two, three = ((at, ("set", (at, at, at, at), at), None) for at in (1, 2, 3))
+        # These read what the first one sets, by way of the one ahead; and what it doesn't.
+        four, five, six = ((at, ("copy", (at, at, at, at), by, by), None) for at, by in ((4, -3), (5, -1), (6, -4)))
         for before, behind, told in (
                 ((), (), []), ((one,), (one,), []), ((), (one,), [1]), ((one,), (), [1]),
                 ((one, two), (one, two, three), [3]), ((one, two), (two, one), [1, 2, 2, 1]),
-                ((one, two, three), (one, three), [2, 3, 3]), ((one, two), (one, three), [2, 3])):
+                ((one, two, three), (one, three), [2]), ((one, two), (one, three), [2, 3]),
+                ((one, two, three), (two, three), [1]), ((three,), (one, two, three), [1, 2]),
+                ((one, two, three), (one, three, two), [2, 3, 3, 2]), ((one, one), (one,), [1]),
+                ((one, one), (one, one, one), [1]), ((one, four, five), (four, five), [1, 4, 5]),
+                ((one, four, five), (one, five), [4, 5]), ((five, four), (five, one, four), [1, 4]),
+                ((one, six, two), (six, two), [1]), ((two, six, five), (six, five), [2, 6]),
+                ((one, five, four), (five, four), [1, 4]), ((five, four, one), (five, one), [4])):
             self.assertEqual([box[0] for box in touched_boxes(before, behind)], told)
 
 

@@ -124,6 +124,19 @@ class Memories(unittest.TestCase):
                 self.assertEqual(land.tile(level, i, j), plain_tile(land, level, i, j))
                 self.assertEqual(square_at(land, 0, i, j, least=5), plain_square(land, 0, i, j, 5))
 
+    def test_the_same_tiles_behind_each_deed(self):
+        for number in range(6):
+            chance = Chance(114 + number)
+            rules = chance.many_rules(5, 2)
+            land = Land(rules[0], 4)
+            for _ in range(60):
+                self.deed(land, chance, rules)
+                never = Land(rules[0], 4, memory=0)
+                never.pour(land)
+                for i, j in ((-1, -1), (-1, 0), (0, -1), (0, 0), (1, 0), (0, 1), (-2, 1), (62, 0)):
+                    self.assertEqual(land.tile(0, i, j), never.tile(0, i, j))
+                self.assertEqual(square_at(land, 1, -1, -1), square_at(never, 1, -1, -1))
+
     def deed(self, land, chance, rules):
         numbers = [number for number, _ in land.edits()]
         pick = chance.random.random()
