@@ -37,6 +37,15 @@ class Memories(unittest.TestCase):
         memory.forget([(0, 0, 5, 5), (109, 109, 109, 109)])
         self.assertIsNone(memory.kept("far"))
 
+    def test_beside_on_each_side(self):
+        box = (10, 20, 19, 29)
+        for dx, dz, left in ((10, 0, 1), (-10, 0, 1), (0, 10, 1), (0, -10, 1), (9, 9, None), (-9, 9, None), (9, -9, None),
+                             (-9, -9, None), (10, 10, 1), (0, 0, None)):
+            memory = Memory(1)
+            memory.keep("box", box, 1)
+            memory.forget([(box[0] + dx, box[1] + dz, box[2] + dx, box[3] + dz)])
+            self.assertEqual(memory.kept("box"), left, (dx, dz))
+
     def test_which_boxes_deeds_touch(self):
         one, two, three = ((at, ("set", (at, at, at, at), at), None) for at in (1, 2, 3))
         # These read what the first one sets, by way of the one ahead; and what it doesn't.
@@ -55,6 +64,16 @@ class Memories(unittest.TestCase):
 
 
 class Lands(unittest.TestCase):
+    def test_no_more_tiles_than_told(self):
+        for bound in (0, 1, 3):
+            for land in (Land(HILLS, 3, memory=bound), Land(HILLS, 3, memory=bound).twin()):
+                made = []
+                heights = land.heights
+                land.heights = lambda *told: made.append(told) or heights(*told)
+                for i in (0, 1, 2, 3) * 2 + (3, 2, 1, 0):
+                    land.tile(0, i, 0)
+                self.assertEqual(len(made), 12 - bound)
+
     def test_nothing_is_made_twice(self):
         land = Land(HILLS, 3)
         made = []
