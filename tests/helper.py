@@ -6,7 +6,7 @@ Nothing here uses the package, so that an answer of the package is held against 
 import contextlib
 import itertools
 import random
-import signal
+import sys
 
 LAND = (-10 ** 6, -10 ** 6, 10 ** 6, 10 ** 6)
 PAIRS = ("plus", "less", "times", "least", "most")
@@ -15,17 +15,24 @@ FIELD_PLACES.update({word: (1, 2) for word in PAIRS})
 
 
 @contextlib.contextmanager
-def within_seconds(most):
-    """Fail where what is done within takes longer; without it an endless answer would hang."""
-    def stop(*_):
-        raise AssertionError(f"no answer within {most} seconds")
-    before = signal.signal(signal.SIGALRM, stop)
-    signal.setitimer(signal.ITIMER_REAL, most)
+def within_calls(most):
+    """Fail where what is done within takes more calls; without it an endless answer would hang.
+
+    Calls are counted and not seconds, so that no test hangs on how fast a machine is.
+    """
+    many = 0
+
+    def count(_, event, __):
+        nonlocal many
+        many += event in ("call", "c_call")
+        if many > most:
+            raise AssertionError(f"more than {most} calls")
+    before = sys.getprofile()
+    sys.setprofile(count)
     try:
         yield
     finally:
-        signal.setitimer(signal.ITIMER_REAL, 0)
-        signal.signal(signal.SIGALRM, before)
+        sys.setprofile(before)
 
 
 def plain_knot(seed, salt, i, j):

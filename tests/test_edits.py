@@ -4,7 +4,7 @@ import unittest
 
 from landweave.errors import Full, NoBox, NoEdit, NoRules
 from landweave.land import Land
-from tests.helper import Chance, deep_in, plain_height, within_seconds
+from tests.helper import Chance, deep_in, plain_height, within_calls
 from tests.test_land import HILLS, land_of
 
 END = 10 ** 6
@@ -70,7 +70,7 @@ class Words(unittest.TestCase):
     def test_copies_of_copies(self):
         for dx, dz in ((1, 0), (0, -1), (7, 5), (1000, 1000), (0, 0)):
             land = land_of(HILLS, 6, [("raise", (0, 0, 3, 3), 9)] + [("copy", ALL, dx, dz)] * 59)
-            with within_seconds(5):
+            with within_calls(200000):
                 for x, z in ((0, 0), (-59, 3), (5, 9)):
                     at = (x + 59 * dx, z + 59 * dz)
                     higher = 9 if 0 <= at[0] <= 3 and 0 <= at[1] <= 3 else 0
@@ -83,7 +83,7 @@ class Words(unittest.TestCase):
         edits = [("copy", chance.part((-30, -30, 30, 30)), chance.random.randint(-9, 9), at % 7 - 3)
                  for at in range(60)]
         land = land_of(HILLS, 6, edits)
-        with within_seconds(20):
+        with within_calls(3000000):
             tile = land.tile(0, 0, -1)
             for x in range(17):
                 for z in range(17):

@@ -4,7 +4,7 @@ import unittest
 
 from landweave.errors import NoBox, NoPoint, NoRules
 from landweave.fields import bounds_of, must_rules, steps_of, value_at
-from tests.helper import bare, count_of, deep_in, within_seconds
+from tests.helper import bare, count_of, deep_in, within_calls
 
 X, Z = ("x",), ("z",)
 MANY = 10 ** 6
@@ -301,13 +301,13 @@ class TooMany(Refusing):
 
     def test_very_many_are_refused_soon(self):
         _, last = self.doubled(X)
-        with within_seconds(5):
+        with within_calls(200000):
             self.refused(self.doubled(("name", last))[0], (), "great")
             self.refused(self.doubled(("plus", X, ("name", last)))[0], (), "great")
             self.refused(self.doubled(("plus", ("name", last), ("whole", 1)))[0], (), "great")
 
     def test_very_many_that_no_name_asks_for(self):
-        with within_seconds(5):
+        with within_calls(200000):
             self.taken(self.doubled(X)[0])
             _, last = self.doubled(X)
             self.taken(self.doubled(("let", "zz", ("name", last), Z))[0])
@@ -317,7 +317,7 @@ class TooMany(Refusing):
         rules = ("name", "a")
         for _ in range(58):
             rules = ("let", "a", ("below",) + (("name", "a"),) * 4, rules)
-        with within_seconds(5):
+        with within_calls(200000):
             self.refused(("let", "a", Z, rules), (), "great")
 
     def test_products_of_products(self):
@@ -325,7 +325,7 @@ class TooMany(Refusing):
         rules = ("name", "a")
         for _ in range(58):
             rules = ("let", "a", ("times", ("name", "a"), ("name", "a")), rules)
-        with within_seconds(5):
+        with within_calls(200000):
             self.refused(("let", "a", X, rules), (), "great")
             self.taken(("let", "a", X, ("let", "b", rules, Z)))
 
@@ -333,7 +333,7 @@ class TooMany(Refusing):
         rules = deep_in(("name", "a"), 99, lambda field: ("plus", field, ("name", "a")))
         for _ in range(57):
             rules = ("let", "a", ("name", "a"), rules)
-        with within_seconds(5):
+        with within_calls(200000):
             self.assertEqual(value_at(("let", "a", X, rules), 0, 3, 0), 300)
 
 

@@ -5,7 +5,7 @@ import unittest
 from landweave.errors import NoBox
 from landweave.land import Land
 from landweave.squares import highest, shows_highest, shows_tall, tall
-from tests.helper import Chance, plain_height, points_in, within_seconds
+from tests.helper import Chance, plain_height, points_in, within_calls
 from tests.test_land import HILLS, land_of
 
 END = 10 ** 6
@@ -96,7 +96,7 @@ class Bounds(unittest.TestCase):
                        [(1000, 999), (-1000, 1000)] * 30):
             for place in (box, ALL, (-END, 0, 31, END), (5, 5, 40, 70)):
                 land = land_of(HILLS, 6, [("copy", place, dx, dz) for dx, dz in shifts])
-                with within_seconds(5):
+                with within_calls(200000):
                     for asked in (box, ALL, (10, 10, 20, 90), (31, 31, 32, 32)):
                         self.within(land, asked, (max(asked[0], 12), max(asked[1], 12), asked[2], asked[3]))
                     low, high = land.bounds(box)
@@ -108,7 +108,7 @@ class Bounds(unittest.TestCase):
         edits = [(word, chance.part((-500, -500, 500, 500)), dx, 3)[:3 + (word == "copy")]
                  for at in range(60) for word, dx in ((("copy", at - 30), ("raise", at), ("least", at))[at % 3],)]
         land = land_of(HILLS, 6, edits)
-        with within_seconds(5):
+        with within_calls(200000):
             for _ in range(100):
                 box = chance.part((-500, -500, 500, 500))
                 self.within(land, box, chance.part(box))
