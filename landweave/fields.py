@@ -52,29 +52,6 @@ def run_steps(some, seed, x, z):
     return run_known(some, seed, x, z, None)
 
 
-def run_known(some, seed, x, z, known):
-    """What run_steps tells; known has the knots that were asked for by this seed, or is None."""
-    values = []
-    for step in some:
-        word = step[0]
-        if word == "noise":
-            value = noise_value(seed, step[1], step[2], x + step[3], z + step[4], known)
-        elif word == "whole":
-            value = step[1]
-        elif word == "x":
-            value = x + step[1]
-        elif word == "z":
-            value = z + step[1]
-        elif word == "over":
-            value = values[step[1]] // step[2]
-        elif word == "below":
-            value = values[step[3] if values[step[1]] < values[step[2]] else step[4]]
-        else:
-            value = joined_value(word, values[step[1]], values[step[2]])
-        values.append(value)
-    return values[-1]
-
-
 def bounds_of(rules, seed, box):
     """The least and the greatest value that the rules may have in a box: (LOW, HIGH)."""
     steps = steps_of(rules)
@@ -196,17 +173,35 @@ def placed(field, dx, dz, lets, made):
 # Values.
 
 
-def joined_value(word, one, other):
-    """What a word of two fields makes of their values."""
-    if word == "plus":
-        return one + other
-    if word == "less":
-        return one - other
-    if word == "times":
-        return one * other
-    if word == "least":
-        return one if one < other else other
-    return other if one < other else one
+def run_known(some, seed, x, z, known):
+    """What run_steps tells; known has the knots that were asked for by this seed, or is None."""
+    values = []
+    for step in some:
+        word = step[0]
+        if word == "noise":
+            value = noise_value(seed, step[1], step[2], x + step[3], z + step[4], known)
+        elif word == "plus":
+            value = values[step[1]] + values[step[2]]
+        elif word == "whole":
+            value = step[1]
+        elif word == "x":
+            value = x + step[1]
+        elif word == "z":
+            value = z + step[1]
+        elif word == "over":
+            value = values[step[1]] // step[2]
+        elif word == "less":
+            value = values[step[1]] - values[step[2]]
+        elif word == "times":
+            value = values[step[1]] * values[step[2]]
+        elif word == "least":
+            value = min(values[step[1]], values[step[2]])
+        elif word == "most":
+            value = max(values[step[1]], values[step[2]])
+        else:
+            value = values[step[3] if values[step[1]] < values[step[2]] else step[4]]
+        values.append(value)
+    return values[-1]
 
 
 # Ranges.

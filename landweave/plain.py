@@ -26,7 +26,9 @@ def is_name(thing):
 
 def is_point(x, z):
     """Whether (x, z) is a point of the land."""
-    return is_from(x, -EDGE, EDGE) and is_from(z, -EDGE, EDGE)
+    # Written out, as it is asked of each height.
+    return (isinstance(x, int) and isinstance(z, int) and -EDGE <= x <= EDGE and -EDGE <= z <= EDGE
+            and not isinstance(x, bool) and not isinstance(z, bool))
 
 
 def must_point(x, z):
