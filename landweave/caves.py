@@ -4,6 +4,7 @@ from landweave.cells import (
     cells_beside, cells_of, holds_cell, must_cell, must_room, must_small_room, rock_stack, shared_room)
 from landweave.errors import NoCount, NoDeed, NoPoint
 from landweave.fields import steps_of
+from landweave.ground import way_to
 from landweave.memory import Memory
 from landweave.plain import is_from
 
@@ -253,15 +254,6 @@ def must_be_in(room, cell):
     must_cell(cell[0], cell[1], cell[2])
     if not holds_cell(room, cell[0], cell[1], cell[2]):
         raise NoPoint()
-
-
-def way_to(before, cell):
-    """The way to a cell, by what each cell is come to from."""
-    way = []
-    while cell is not None:
-        way.append(cell)
-        cell = before[cell]
-    return way[::-1]
 
 
 def shows_same(cave, room, one, other, told):

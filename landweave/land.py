@@ -38,6 +38,7 @@ class Land:
         self._known = {}
         self._tiles = Memory(memory)
         self._squares = Memory(memory)
+        self._tables = Memory(memory)
 
     def __eq__(self, other):
         return isinstance(other, Land) and self._rules == other._rules and self._seed == other._seed and (
@@ -95,6 +96,14 @@ class Land:
     def keep_square(self, key, box, square):
         """Keep what is told of a square until a deed touches it."""
         self._squares.keep(key, box, square)
+
+    def kept_table(self, key):
+        """What is kept of a border table by its block and weight, or None."""
+        return self._tables.kept(key)
+
+    def keep_table(self, key, box, table):
+        """Keep a border table until a deed touches its block."""
+        self._tables.keep(key, box, table)
 
     # Deeds.
 
@@ -164,6 +173,7 @@ class Land:
         if boxes:
             self._tiles.forget(boxes)
             self._squares.forget(boxes)
+            self._tables.forget(boxes)
         self._standing = standing
         self._layers = tuple([entry[2] for entry in standing])
 

@@ -2,6 +2,7 @@
 
 from heapq import heappop, heappush
 
+from landweave.ground import heights_in, points_in, points_of
 from landweave.land import must_tile, tile_box
 from landweave.plain import holds_box, is_box, must_box_of
 
@@ -93,11 +94,6 @@ def is_passed(box, high, point, height):
     return high < height or high == height and point < box[:2]
 
 
-def points_of(box):
-    """How many points a box has."""
-    return (box[2] - box[0] + 1) * (box[3] - box[1] + 1)
-
-
 def halves(box):
     """The two halves of a box of two points or more, cut where it is longer."""
     x0, z0, x1, z1 = box
@@ -106,16 +102,6 @@ def halves(box):
         return [(x0, z0, middle, z1), (middle + 1, z0, x1, z1)]
     middle = (z0 + z1) // 2
     return [(x0, z0, x1, middle), (x0, middle + 1, x1, z1)]
-
-
-def heights_in(land, box):
-    """The heights of all points of a box, in order."""
-    return land.heights(box[0], box[1], box[2] - box[0] + 1, box[3] - box[1] + 1, 1)
-
-
-def points_in(box):
-    """All points of a box, in order."""
-    return [(x, z) for x in range(box[0], box[2] + 1) for z in range(box[1], box[3] + 1)]
 
 
 def points_from(land, box, least):

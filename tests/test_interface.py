@@ -3,7 +3,7 @@
 import inspect
 import unittest
 
-from landweave import caves, errors, fields, knots, land, squares
+from landweave import caves, errors, fields, knots, land, sight, squares, water, ways
 
 TOLD = {
     knots: ("knot(seed, salt, i, j)",),
@@ -20,6 +20,11 @@ TOLD = {
             "shows_same(cave, room, one, other, told)"),
     caves.Cave: ("is_rock(self, x, y, z)", "block(self, room)", "dig(self, room)", "fill(self, room)", "back(self)",
                  "again(self)", "twin(self)"),
+    ways: ("route(land, box, one, other, *, weight=1)", "shows_route(land, box, one, other, told, *, weight=1)",
+           "price_by_blocks(land, box, one, other, *, weight=1, side=5)", "prices(land, box, one, *, weight=1)"),
+    water: ("poured(land, box, spring, level)", "shows_poured(land, box, spring, level, told)",
+            "least_level(land, box, spring)"),
+    sight: ("sees(land, one, other, *, eye=2)",),
     errors: ("NoRules(path=(), why='')", "NoEdit(why='')", "NoBrush(path=(), why='')", "NoText(row=0, spot=0)",
              "NoSuch(number=0)"),
 }
@@ -35,6 +40,7 @@ class Interface(unittest.TestCase):
 
     def test_numbers(self):
         self.assertEqual(land.MEMORY, 64)
+        self.assertEqual(sight.EYE, 2)
         self.assertEqual((caves.CUT, caves.ROUNDS, caves.NEED), (32768, 2, 14))
 
 

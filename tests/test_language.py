@@ -109,6 +109,9 @@ class Language(unittest.TestCase):
                 "land": "Land needless thinned covered_by",
                 "squares": "square_at tall shows_tall highest shows_highest",
                 "caves": "Cave rooms_in by_blocks same_room shows_same",
+                "ways": "route shows_route price_by_blocks prices",
+                "water": "poured shows_poured least_level",
+                "sight": "sees",
                 "fields": "must_rules value_at steps_of run_steps bounds_of",
                 "errors": "LandError NoRules NoBox NoPoint NoLevel NoCount NoEdit Full NoDeed NoBrush "
                           "NoText NoLine NoSuch"}
