@@ -160,6 +160,11 @@ class Land:
         self._done.append(deed)
         self._stand(deed[1])
 
+    def take(self, number, edit):
+        """Put an edit behind by a number of its own, which is no deed; later numbers are greater."""
+        self._stand(with_edit(self._standing, number, edit))
+        self._next = max(self._next, number + 1)
+
     def _do(self, standing, number):
         """Do a deed that leaves these edits standing and that number next."""
         self._done.append((self._standing, standing))

@@ -7,7 +7,7 @@ step to it.
 from heapq import heappop, heappush
 
 from landweave.errors import NoCount
-from landweave.ground import ground_of, is_at_edge, must_be_in, points_beside, points_in
+from landweave.ground import ground_of, is_at_edge, is_in, must_be_in, points_beside, points_in
 from landweave.plain import is_from, must_box_of
 
 MOST_POINTS = 400
@@ -168,14 +168,11 @@ def part_of(land, steps, block, weight):
     TABLE is its border table as the land keeps it: for points at its border the least prices, within it,
     of all points there; it is filled as it is asked for.
     """
-    inner = {point: [] for point in points_in(block)}
+    inner = {}
     gates = []
-    for point, within in inner.items():
-        for ahead, price in steps[point]:
-            if ahead in inner:
-                within.append((ahead, price))
-            else:
-                gates.append((point, ahead, price))
+    for point in points_in(block):
+        inner[point] = [(ahead, price) for ahead, price in steps[point] if is_in(block, ahead)]
+        gates.extend([(point, ahead, price) for ahead, price in steps[point] if not is_in(block, ahead)])
     table = land.kept_table((block, weight))
     if table is None:
         table = {point: {} for point in inner if is_at_edge(block, point)}
@@ -190,7 +187,8 @@ def ways_on(part, point, other):
     if not within or other in inner:
         within = prices_from(inner, point)
         if point in table:
-            table[point] = {border: within[border] for border in table}
+            kept = {border: within[border] for border in table}
+            table[point] = kept
     ways = [(ahead, within[gate] + more) for gate, ahead, more in gates]
     if other in inner:
         ways.append((other, within[other]))

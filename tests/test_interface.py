@@ -3,7 +3,8 @@
 import inspect
 import unittest
 
-from landweave import caves, errors, fields, knots, land, sight, squares, water, ways
+from landweave import (
+    brushes, caves, desk, errors, fields, knots, land, sight, squares, texts, things, water, ways)
 
 TOLD = {
     knots: ("knot(seed, salt, i, j)",),
@@ -25,6 +26,11 @@ TOLD = {
     water: ("poured(land, box, spring, level)", "shows_poured(land, box, spring, level, told)",
             "least_level(land, box, spring)"),
     sight: ("sees(land, one, other, *, eye=2)",),
+    things: ("things_in(land, box, *, salt, far=3, least=0)",),
+    brushes: ("must_brush(brush)", "reach_of(brush)", "painted(land, brush, x, z)"),
+    texts: ("show_rules(rules)", "read_rules(text)", "saved(land)", "read_land(text)"),
+    desk: ("Desk()",),
+    desk.Desk: ("say(self, line)",),
     errors: ("NoRules(path=(), why='')", "NoEdit(why='')", "NoBrush(path=(), why='')", "NoText(row=0, spot=0)",
              "NoSuch(number=0)"),
 }
@@ -40,7 +46,7 @@ class Interface(unittest.TestCase):
 
     def test_numbers(self):
         self.assertEqual(land.MEMORY, 64)
-        self.assertEqual(sight.EYE, 2)
+        self.assertEqual((sight.EYE, things.FAR), (2, 3))
         self.assertEqual((caves.CUT, caves.ROUNDS, caves.NEED), (32768, 2, 14))
 
 

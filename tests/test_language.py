@@ -112,6 +112,10 @@ class Language(unittest.TestCase):
                 "ways": "route shows_route price_by_blocks prices",
                 "water": "poured shows_poured least_level",
                 "sight": "sees",
+                "things": "things_in",
+                "brushes": "must_brush reach_of painted",
+                "texts": "show_rules read_rules saved read_land",
+                "desk": "Desk",
                 "fields": "must_rules value_at steps_of run_steps bounds_of",
                 "errors": "LandError NoRules NoBox NoPoint NoLevel NoCount NoEdit Full NoDeed NoBrush "
                           "NoText NoLine NoSuch"}
@@ -123,6 +127,7 @@ class Language(unittest.TestCase):
     def test_methods_stand_in_their_class(self):
         told = {"Land": "__init__ __eq__ __len__ height rules seed tile bounds edit drop swap pour many back again "
                         "edits twin",
+                "Desk": "__init__ say",
                 "Cave": "__init__ is_rock block dig fill back again twin"}
         found = {node.name: {part.name for part in node.body if isinstance(part, ast.FunctionDef)}
                  for _, tree in trees() for node in tree.body if isinstance(node, ast.ClassDef)}
