@@ -40,7 +40,7 @@ def must_brush(brush):
         elif kind == "row":
             todo.extend(things_of(thing, path)[::-1])
         elif kind == "word":
-            if not isinstance(thing, str) or thing not in MARKS:
+            if thing not in MARKS:
                 raise NoBrush(path, "kind")
         elif not is_from(thing, NUMBERS[kind][0], NUMBERS[kind][1]):
             raise NoBrush(path, "number")

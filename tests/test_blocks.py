@@ -1,10 +1,11 @@
 """Points 18, 4 and 1: prices put together from blocks, and the border tables that a land keeps for them."""
 
 import unittest
+from unittest import mock
 
 from landweave.errors import NoBox, NoCount, NoPoint
 from landweave.land import Land
-from landweave.ways import price_by_blocks, prices, route
+from landweave.ways import price_by_blocks, prices, prices_from, route
 from tests.helper import Chance
 from tests.plain_ground import ground_of, plain_prices
 from tests.test_land import HILLS, land_of
@@ -118,6 +119,18 @@ class Tables(unittest.TestCase):
                     for other in ((box[2], box[3]), (3, 1), (0, 0), (box[0], box[3])):
                         self.assertEqual(price_by_blocks(land, box, one, other, weight=2),
                                          route(land, box, one, other, weight=2)[2])
+
+    def test_what_is_kept_isnt_made_again(self):
+        for memory, again in ((64, 0), (0, 9)):
+            land, box = Land(("over", ("noise", 4, 1), 5000), 3, memory=memory), (0, 0, 14, 14)
+            with mock.patch("landweave.ways.prices_from", wraps=prices_from) as made:
+                first = price_by_blocks(land, box, (0, 0), (14, 14))
+                many = made.call_count
+                self.assertEqual(price_by_blocks(land, box, (0, 0), (14, 14)), first)
+            # Only within the other's own block the ways are looked for anew.
+            left = made.call_count - many
+            self.assertGreaterEqual(left, again)
+            self.assertEqual(left < many // 2, memory > 0)
 
     def test_what_a_deed_touches_is_thrown_away(self):
         land, box = Land(("whole", 0), 3), (0, 0, 14, 4)

@@ -408,6 +408,24 @@ class Painting(unittest.TestCase):
                 with self.subTest(x=x, z=z), self.assertRaises(NoPoint):
                     painted(land, brush, x, z)
                 self.assertEqual(len(land), 0)
+        for x, z, good in ((0, 7 - END, True), (0, 6 - END, False), (END - 3, 7 - END, True), (END - 2, 7 - END, False)):
+            land, brush = Land(HILLS, 7), [("move", 3, -7), MARK]
+            if good:
+                self.assertEqual(painted(land, brush, x, z), [1])
+            else:
+                with self.subTest(x=x, z=z), self.assertRaises(NoPoint):
+                    painted(land, brush, x, z)
+        # Marks as great as can be, at the farthest places.
+        for brush, least, most in (([("mark", "set", 50, 50, 1)], -END, END - 49),
+                                   ([("often", 20, [("move", 100, 100)]), ("mark", "set", 50, 50, 1)], -END - 2000, END - 2049),
+                                   ([("often", 20, [("move", -100, -100)]), MARK], 2000 - END, END + 2000)):
+            for at in (least - 1, least, most, most + 1):
+                land = Land(HILLS, 7)
+                if least <= at <= most and -END <= at <= END:
+                    self.assertEqual(painted(land, brush, at, at), [1])
+                else:
+                    with self.subTest(at=at), self.assertRaises(NoPoint):
+                        painted(land, brush, at, at)
         # The branch that would lead out isn't gone, but might be.
         leads_out = [("if", 5, [MARK], [("move", 9, 0), MARK])]
         for x, good in ((END - 9, True), (END - 8, False)):

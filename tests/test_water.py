@@ -216,8 +216,12 @@ class Lookers(unittest.TestCase):
         self.assertIs(self.shows(11, "runs", [(0, 3)], spring=(0, 3)), True)
         for bent in ([], [(0, 3), (-1, 3)], [(0, 4)], [(-1, 3)], [(0, 3), (0, 3)]):
             self.assertIs(self.shows(11, "runs", bent, spring=(0, 3)), False)
-        # Out of the box by one point and back to its edge.
-        self.assertIs(shows_poured(basin(), (0, 0, 2, 2), (1, 1), 11, ("runs", [(1, 1), (1, 0)])), True)
+        # A way over a wall at the edge and out of the box is none, though it has as many points as the one that is.
+        land, box = land_of(("whole", 10), 1, [("set", (0, 0, 5, 0), 99), ("set", (0, 0, 0, 5), 99)]), (0, 0, 5, 5)
+        told = poured(land, box, (1, 1), 50)
+        self.assertEqual((told[0], len(told[1])), ("runs", 5))
+        for bent in ([(1, 1), (0, 1), (-1, 1), (-1, 2), (0, 2)], [(1, 1), (1, 0), (1, -1), (2, -1), (2, 0)]):
+            self.assertIs(shows_poured(land, box, (1, 1), 50, ("runs", bent)), False)
 
     def test_words_and_parts(self):
         lake = poured(basin(), BOX, (3, 3), 5)[1]

@@ -229,6 +229,14 @@ class Lookers(unittest.TestCase):
         raised[0][3] = 9
         self.assertIs(self.shows(longest, 9, raised), False)
 
+    def test_a_way_to_another_end_of_the_same_price(self):
+        land, box = Land(FLAT, 1), (0, 0, 4, 4)
+        _, points, price, marks = route(land, box, (0, 0), (2, 2))
+        self.assertIs(shows_route(land, box, (0, 0), (2, 2), ("route", points, price, marks)), True)
+        for bent in ([(0, 0), (1, 0), (2, 0), (3, 0), (3, 1)], [(0, 0), (0, 1), (0, 2), (0, 3), (0, 4)],
+                     [(0, 2), (0, 1), (0, 2), (1, 2), (2, 2)], [(4, 2), (3, 2), (4, 2), (3, 2), (2, 2)]):
+            self.assertIs(shows_route(land, box, (0, 0), (2, 2), ("route", bent, price, marks)), False)
+
     def test_prices_bent(self):
         _, points, price, marks = self.told
         for bent in (price - 1, price + 1, 0, -price, 10 ** 29):
